@@ -8,9 +8,6 @@ import (
 	"weave/api"
 )
 
-// kinds is how many kinds of objects there are.
-const kinds = api.List + 1
-
 // Check is nil if b is a batch, else a fault over ErrBatch.
 func Check(b api.Batch) error {
 	if err := checkHead(b); err != nil {
@@ -55,7 +52,7 @@ func checkEffect(b api.Batch, i int, e api.Effect) error {
 	switch {
 	case err != nil:
 		return err
-	case !within(e.Object, 0, api.Objects-1) || e.Object%kinds != rule.Kind:
+	case !within(e.Object, 0, api.Objects-1) || KindOf(e.Object) != rule.Kind:
 		return Fault{"Object", ErrBatch}
 	case !within(e.Value, rule.Least, rule.Greatest):
 		return Fault{"Value", ErrBatch}
@@ -76,7 +73,7 @@ func refFits(b api.Batch, i int, ref api.Dot, use RefUse) bool {
 
 func checkDots(b api.Batch, i int, dots []api.Dot) error {
 	for k, d := range dots {
-		rises := k == 0 || compareDots(dots[k-1], d) < 0
+		rises := k == 0 || CompareDots(dots[k-1], d) < 0
 		if !rises || !covers(b, i, d) {
 			return Fault{"dot " + strconv.Itoa(k), ErrBatch}
 		}
@@ -95,6 +92,7 @@ func covers(b api.Batch, i int, d api.Dot) bool {
 	return within(d.Seq, 1, b.Clock[d.Origin])
 }
 
-func compareDots(a, b api.Dot) int {
+// CompareDots tells which of two dots is ahead: below 0, if it is a.
+func CompareDots(a, b api.Dot) int {
 	return cmp.Or(cmp.Compare(a.Origin, b.Origin), cmp.Compare(a.Seq, b.Seq), cmp.Compare(a.Index, b.Index))
 }

@@ -13,24 +13,24 @@ const (
 
 // Rule is what the effects of one operation have in common.
 type Rule struct {
-	Kind                int // of the objects that it is for
-	Least, Greatest     int // of its Value
+	Kind                Kind // of the objects that it is for
+	Least, Greatest     int  // of its Value
 	Ref                 RefUse
 	LeastDots, MostDots int
 }
 
 var rules = [...]Rule{
-	api.Add:    {Kind: api.Counter, Least: -api.MaxAdd, Greatest: api.MaxAdd},
-	api.Insert: {Kind: api.Set, Greatest: api.MaxValue},
-	api.Remove: {Kind: api.Set, LeastDots: 1, MostDots: api.MaxDots},
-	api.Write:  {Kind: api.Register, Greatest: api.MaxValue, MostDots: api.MaxDots},
-	api.Put:    {Kind: api.List, Greatest: api.MaxValue, Ref: MayRef},
-	api.Erase:  {Kind: api.List, Ref: MustRef},
+	Add:    {Kind: Counter, Least: -api.MaxAdd, Greatest: api.MaxAdd},
+	Insert: {Kind: Set, Greatest: api.MaxValue},
+	Remove: {Kind: Set, LeastDots: 1, MostDots: api.MaxDots},
+	Write:  {Kind: Register, Greatest: api.MaxValue, MostDots: api.MaxDots},
+	Put:    {Kind: List, Greatest: api.MaxValue, Ref: MayRef},
+	Erase:  {Kind: List, Ref: MustRef},
 }
 
 // RuleOf is the rule of an operation; a fault, if op is none.
 func RuleOf(op int) (Rule, error) {
-	if !within(op, api.Add, api.Erase) {
+	if !within(op, int(Add), int(Erase)) {
 		return Rule{}, Fault{"Op", ErrBatch}
 	}
 	return rules[op], nil

@@ -4,10 +4,22 @@ package weave
 import (
 	"weave/api"
 	"weave/frames"
+	"weave/replica"
 )
 
 // Store is replicas, and what is under way between them.
-type Store struct{}
+type Store struct{ replicas []*replica.Replica }
+
+// replica is the one of that number, if the call may go on.
+func (s *Store) replica(r int) (*replica.Replica, api.Errno) {
+	switch {
+	case s == nil:
+		return nil, api.ErrNil
+	case r < 0 || r >= len(s.replicas):
+		return nil, api.ErrReplica
+	}
+	return s.replicas[r], api.OK
+}
 
 // Encode writes a batch as a frame (P3).
 func Encode(b api.Batch) (string, api.Errno) {
@@ -22,31 +34,85 @@ func Decode(s string) (api.Batch, api.Errno) {
 }
 
 // New makes a store (P5).
-func New(n int) (*Store, api.Errno) { return nil, api.OK }
+func New(n int) (*Store, api.Errno) {
+	if n < api.MinReplicas || n > api.MaxReplicas {
+		return nil, api.ErrSize
+	}
+	s := &Store{}
+	for r := range n {
+		s.replicas = append(s.replicas, replica.New(r, n))
+	}
+	return s, api.OK
+}
 
 // Begin opens a transaction (P6).
-func (s *Store) Begin(r int) api.Errno { return api.OK }
+func (s *Store) Begin(r int) api.Errno {
+	at, errno := s.replica(r)
+	if errno != api.OK {
+		return errno
+	}
+	return at.Begin()
+}
 
 // Do does an operation in a transaction (P7).
-func (s *Store) Do(r int, op int, object int, a int, b int) api.Errno { return api.OK }
+func (s *Store) Do(r int, op int, object int, a int, b int) api.Errno {
+	at, errno := s.replica(r)
+	if errno != api.OK {
+		return errno
+	}
+	return at.Do(op, object, a, b)
+}
 
 // Read tells what an object comes to (P8).
-func (s *Store) Read(r int, object int) ([]int, api.Errno) { return nil, api.OK }
+func (s *Store) Read(r int, object int) ([]int, api.Errno) {
+	at, errno := s.replica(r)
+	if errno != api.OK {
+		return nil, errno
+	}
+	return at.Read(object)
+}
 
 // Abort ends a transaction without effects (P6).
-func (s *Store) Abort(r int) api.Errno { return api.OK }
+func (s *Store) Abort(r int) api.Errno {
+	at, errno := s.replica(r)
+	if errno != api.OK {
+		return errno
+	}
+	return at.Abort()
+}
 
 // Commit ends a transaction with its effects (P9).
-func (s *Store) Commit(r int) (int, api.Errno) { return 0, api.OK }
+func (s *Store) Commit(r int) (int, api.Errno) {
+	at, errno := s.replica(r)
+	if errno != api.OK {
+		return 0, errno
+	}
+	return at.Commit()
+}
 
 // Clock tells how many batches of each replica are delivered (P10).
-func (s *Store) Clock(r int) ([]int, api.Errno) { return nil, api.OK }
+func (s *Store) Clock(r int) ([]int, api.Errno) {
+	at, errno := s.replica(r)
+	if errno != api.OK {
+		return nil, errno
+	}
+	return at.Clock(), api.OK
+}
 
 // Held tells how many batches are held back (P10).
-func (s *Store) Held(r int) (int, api.Errno) { return 0, api.OK }
+func (s *Store) Held(r int) (int, api.Errno) {
+	_, errno := s.replica(r)
+	return 0, errno
+}
 
 // Log tells a replica's log (P10).
-func (s *Store) Log(r int) (string, api.Errno) { return "", api.OK }
+func (s *Store) Log(r int) (string, api.Errno) {
+	at, errno := s.replica(r)
+	if errno != api.OK {
+		return "", errno
+	}
+	return at.Log(), api.OK
+}
 
 // Messages tells what is under way (P11).
 func (s *Store) Messages() ([]api.Message, api.Errno) { return nil, api.OK }
