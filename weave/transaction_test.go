@@ -165,3 +165,24 @@ func TestCommittedBatches(t *testing.T) {
 	p.read(1, 6, 1)
 	p.read(1, 7, 6, 0)
 }
+
+func TestFirstExample(t *testing.T) {
+	p := newPlay(t, 2)
+	p.begin(0)
+	p.do(0, api.Insert, 1, 7, 0)
+	p.do(0, api.Put, 3, 0, 65)
+	p.do(0, api.Put, 3, 1, 66)
+	p.read(0, 3, 65, 66)
+	p.commit(0, 1)
+	p.clock(0, 1, 0)
+	p.read(0, 1, 7)
+	p.read(0, 3, 65, 66)
+	p.log(0, api.Batch{Seq: 1, Time: 1, Clock: []int{0, 0}, Effects: []api.Effect{
+		{Op: api.Insert, Object: 1, Value: 7},
+		{Op: api.Put, Object: 3, Value: 65},
+		{Op: api.Put, Object: 3, Value: 66, Ref: dot(0, 1, 1)},
+	}})
+	if held, e := p.Held(0); held != 0 || e != api.OK {
+		t.Errorf("P10: Held(0) = %d, %d, want 0", held, e)
+	}
+}
