@@ -1,5 +1,12 @@
 package replica
 
+import (
+	"iter"
+
+	"weave/api"
+	"weave/frames"
+)
+
 // log is the frames of the batches that are delivered, one behind the other.
 type log struct {
 	bytes  string
@@ -9,3 +16,6 @@ type log struct {
 func (l *log) add(frame string) { l.bytes += frame }
 
 func (l *log) sync() { l.synced = len(l.bytes) }
+
+// batches goes through the log, in order, each batch with its frame.
+func (l *log) batches() iter.Seq2[api.Batch, string] { return frames.All(l.bytes) }

@@ -27,6 +27,16 @@ func reads(t *testing.T, r *Replica, object int, want ...int) {
 	}
 }
 
+// commits: the Seq is as wanted, and the frame for the others is the log's last one, if there is a batch.
+func commits(t *testing.T, r *Replica, want int) {
+	t.Helper()
+	before := len(r.Log())
+	seq, frame, e := r.Commit()
+	if seq != want || (frame != "") != (want > 0) || r.Log()[before:] != frame || e != api.OK {
+		t.Errorf("P9: Commit = %d, %x, %d, want %d", seq, frame, e, want)
+	}
+}
+
 func goesWell(t *testing.T, list ...api.Errno) {
 	t.Helper()
 	for i, e := range list {
@@ -59,9 +69,7 @@ func TestMostDots(t *testing.T) {
 	}
 	reads(t, r, 1, 7)
 	goesWell(t, r.Do(api.Remove, 1, 8, 0))
-	if seq, e := r.Commit(); seq != 0 || e != api.OK {
-		t.Errorf("P9: Commit = %d, %d, want 0", seq, e)
-	}
+	commits(t, r, 0)
 }
 
 // A batch of 150 Dots is one that can be committed.
@@ -72,9 +80,7 @@ func TestMostDotsCommitted(t *testing.T) {
 	}
 	before := len(r.Log())
 	goesWell(t, r.Begin(), r.Do(api.Remove, 1, 7, 0))
-	if seq, e := r.Commit(); seq != 1 || e != api.OK {
-		t.Errorf("P9: Commit = %d, %d, want 1", seq, e)
-	}
+	commits(t, r, 1)
 	reads(t, r, 1)
 	b, err := frames.Decode(r.Log()[before:])
 	if err != nil || b.Time != 31 || len(b.Effects[0].Dots) != 150 || !slices.Equal(b.Clock, []int{0, 0, 0, 30}) {
@@ -90,9 +96,7 @@ func TestTimeOfTheOpenTransaction(t *testing.T) {
 	arrive(t, r, 1, 5, api.Effect{Op: api.Put, Object: 3, Value: 9})
 	reads(t, r, 3, 1, 2, 9)
 	goesWell(t, r.Do(api.Put, 3, 3, 3))
-	if seq, e := r.Commit(); seq != 1 || e != api.OK {
-		t.Errorf("P9: Commit = %d, %d, want 1", seq, e)
-	}
+	commits(t, r, 1)
 	reads(t, r, 3, 1, 2, 9, 3)
 	want, _ := frames.Encode(api.Batch{Seq: 1, Time: 6, Clock: []int{0, 1}, Effects: []api.Effect{
 		{Op: api.Put, Object: 3, Value: 1},
@@ -136,12 +140,12 @@ func TestCommitSyncs(t *testing.T) {
 	r := New(0, 2)
 	arrive(t, r, 1, 1, api.Effect{Op: api.Add, Value: 1})
 	goesWell(t, r.Begin())
-	r.Commit()
+	commits(t, r, 0)
 	if r.log.synced != 0 {
 		t.Errorf("P9: %d bytes are synced without a batch", r.log.synced)
 	}
 	goesWell(t, r.Begin(), r.Do(api.Add, 0, 1, 0))
-	r.Commit()
+	commits(t, r, 1)
 	if n := len(r.Log()); n == 0 || r.log.synced != n {
 		t.Errorf("P9: %d bytes are synced of %d", r.log.synced, n)
 	}

@@ -3,7 +3,6 @@ package replica
 import (
 	"weave/api"
 	"weave/batch"
-	"weave/frames"
 	"weave/objects"
 )
 
@@ -101,19 +100,18 @@ func (r *Replica) pending() api.Batch {
 	}
 }
 
-// Commit ends the transaction with its effects; it answers the Seq of its batch, 0 if there is none.
-func (r *Replica) Commit() (int, api.Errno) {
+// Commit ends the transaction with its effects; it answers the Seq of its batch, and the frame that the others are to have. Without effects there is neither.
+func (r *Replica) Commit() (int, string, api.Errno) {
 	if r.state != busy {
-		return 0, api.ErrIdle
+		return 0, "", api.ErrIdle
 	}
 	b := r.pending()
 	r.end()
 	if len(b.Effects) == 0 {
-		return 0, api.OK
+		return 0, "", api.OK
 	}
-	// What Do let in is a batch, so there is a frame.
-	frame, _ := frames.Encode(b)
+	frame := frameOf(b)
 	r.deliver(b, frame)
 	r.log.sync()
-	return b.Seq, api.OK
+	return b.Seq, frame, api.OK
 }

@@ -5,7 +5,6 @@ import (
 	"math"
 	"math/rand"
 	"slices"
-	"testing"
 
 	"weave/api"
 )
@@ -15,6 +14,7 @@ type model struct {
 	number    int
 	replicas  int
 	delivered []api.Batch
+	held      []api.Batch
 	open      bool
 	effects   []api.Effect
 }
@@ -138,17 +138,62 @@ func (m *model) abort() api.Errno {
 	return api.OK
 }
 
-func (m *model) commit() (int, api.Errno) {
+// commit answers the batch; if there is none, it is empty.
+func (m *model) commit() (api.Batch, api.Errno) {
 	if !m.open {
-		return 0, api.ErrIdle
+		return api.Batch{}, api.ErrIdle
 	}
 	b := m.batch()
 	m.open, m.effects = false, nil
 	if len(b.Effects) == 0 {
-		return 0, api.OK
+		return api.Batch{}, api.OK
 	}
+	m.deliver(b)
+	return b, api.OK
+}
+
+func (m *model) deliver(b api.Batch) {
 	m.delivered = append(m.delivered, b)
-	return b.Seq, api.OK
+	m.held = slices.DeleteFunc(m.held, func(x api.Batch) bool { return x.Origin == b.Origin && x.Seq == b.Seq })
+}
+
+func (m *model) due(b api.Batch) bool {
+	clock := m.clock()
+	for i, n := range b.Clock {
+		if n > clock[i] {
+			return false
+		}
+	}
+	return b.Seq == clock[b.Origin]+1
+}
+
+func byTime(a, b api.Batch) int {
+	return cmp.Or(cmp.Compare(a.Time, b.Time), cmp.Compare(a.Origin, b.Origin), cmp.Compare(a.Seq, b.Seq))
+}
+
+func (m *model) takeFrame(b api.Batch) {
+	switch {
+	case m.clock()[b.Origin] >= b.Seq:
+		return
+	case m.due(b):
+		m.deliver(b)
+		m.deliverDue()
+	case len(m.held) < 6 && !slices.ContainsFunc(m.held, func(x api.Batch) bool { return x.Origin == b.Origin && x.Seq == b.Seq }):
+		m.held = append(m.held, b)
+	}
+}
+
+func (m *model) deliverDue() {
+	for slices.ContainsFunc(m.held, m.due) {
+		due := slices.DeleteFunc(slices.Clone(m.held), func(x api.Batch) bool { return !m.due(x) })
+		m.deliver(slices.MinFunc(due, byTime))
+	}
+}
+
+// answer is what a digest is answered with.
+func (m *model) answer(clock []int) []api.Batch {
+	lacking := slices.DeleteFunc(slices.Clone(m.delivered), func(b api.Batch) bool { return b.Seq <= clock[b.Origin] })
+	return lacking[:min(3, len(lacking))]
 }
 
 // fits: which operations are for which kind.
@@ -224,6 +269,7 @@ func (p play) agree(m *model) {
 		p.read(m.number, object, m.values(object)...)
 	}
 	p.clock(m.number, m.clock()...)
+	p.held(m.number, len(m.held))
 	p.log(m.number, m.delivered...)
 }
 
@@ -242,49 +288,4 @@ func operation(dice *rand.Rand, object int) int {
 		return number(dice, 7)
 	}
 	return [][]int{{api.Add}, {api.Insert, api.Insert, api.Remove}, {api.Write}, {api.Put, api.Put, api.Erase}}[object%4][dice.Intn(1+object%4%2*2)]
-}
-
-// step does one call at the store and at the model.
-func (p play) step(dice *rand.Rand, m *model) {
-	p.Helper()
-	switch dice.Intn(12) {
-	case 0, 1, 2:
-		p.is("P6: Begin", p.Begin(m.number), m.begin())
-	case 3:
-		p.is("P6: Abort", p.Abort(m.number), m.abort())
-	case 4, 5:
-		seq, e := p.Commit(m.number)
-		if want, errno := m.commit(); seq != want || e != errno {
-			p.Errorf("P9: Commit(%d) = %d, %d, want %d, %d", m.number, seq, e, want, errno)
-		}
-	default:
-		object := number(dice, 7)
-		op, a, b := operation(dice, object), number(dice, 4), number(dice, 4)
-		if got, want := p.Do(m.number, op, object, a, b), m.do(op, object, a, b); got != want {
-			p.Errorf("P7: Do(%d, %d, %d, %d, %d) = %d, want %d", m.number, op, object, a, b, got, want)
-		}
-	}
-}
-
-func TestTransactionsByChance(t *testing.T) {
-	for seed := range int64(24) {
-		dice := rand.New(rand.NewSource(seed))
-		n := 2 + int(seed)%3
-		p := newPlay(t, n)
-		var models []*model
-		for r := range n {
-			models = append(models, &model{number: r, replicas: n})
-		}
-		for range 500 {
-			m := models[dice.Intn(n)]
-			p.step(dice, m)
-			p.agree(m)
-			if t.Failed() {
-				t.Fatalf("seed %d", seed)
-			}
-		}
-		for _, m := range models {
-			p.agree(m)
-		}
-	}
 }

@@ -79,6 +79,84 @@ func (p play) log(r int, want ...api.Batch) {
 	}
 }
 
+func (p play) held(r, want int) {
+	p.Helper()
+	if n, e := p.Held(r); n != want || e != api.OK {
+		p.Errorf("P10: Held(%d) = %d, %d, want %d", r, n, e, want)
+	}
+}
+
+// way: what is under way.
+func (p play) way(want ...api.Message) {
+	p.Helper()
+	if l, e := p.Messages(); !slices.Equal(l, want) || e != api.OK {
+		p.Errorf("P11: Messages() = %x, %d, want %x", l, e, want)
+	}
+}
+
+// deliver lets messages arrive, one behind the other; each number is of the list as it is then.
+func (p play) deliver(list ...int) {
+	p.Helper()
+	for _, i := range list {
+		p.is("P11: Deliver", p.Deliver(i), api.OK)
+	}
+}
+
+func (p play) drop(i int) {
+	p.Helper()
+	p.is("P11: Drop", p.Drop(i), api.OK)
+}
+
+func (p play) dropAll() {
+	p.Helper()
+	for range must(p.Messages()) {
+		p.drop(0)
+	}
+}
+
+func (p play) twice(i int) {
+	p.Helper()
+	p.is("P11: Twice", p.Twice(i), api.OK)
+}
+
+func (p play) spoil(i, at, mask int) {
+	p.Helper()
+	p.is("P11: Spoil", p.Spoil(i, at, mask), api.OK)
+}
+
+func (p play) ask(r, to int) {
+	p.Helper()
+	p.is("P13: Ask", p.Ask(r, to), api.OK)
+}
+
+// last is the batch that r has delivered last, which is its own behind a Commit.
+func (p play) last(r int) api.Batch {
+	p.Helper()
+	log := decoded(p.T, must(p.Log(r)))
+	return log[len(log)-1]
+}
+
+// made commits an Add of 1 to the counter 0 at r, and is the batch.
+func (p play) made(r int) api.Batch {
+	p.Helper()
+	p.once(r, api.Add, 0, 1, 0)
+	return p.last(r)
+}
+
+// frameTo and digestTo are messages as they are sent.
+func frameTo(from, to int, b api.Batch) api.Message {
+	s, _ := frameOf(b)
+	return api.Message{Kind: api.Frame, From: from, To: to, Bytes: s}
+}
+
+func digestTo(from, to int, clock ...int) api.Message {
+	var numbers []byte
+	for _, n := range clock {
+		numbers = append(numbers, byte(n))
+	}
+	return api.Message{Kind: api.Digest, From: from, To: to, Bytes: sealed(string(numbers))}
+}
+
 // once does one operation in a transaction of its own.
 func (p play) once(r, op, object, a, b int) {
 	p.Helper()
@@ -103,10 +181,12 @@ type all struct {
 	logs   []string
 	held   []int
 	values [][]int
+	way    []api.Message
 }
 
 func (p play) all() all {
 	var x all
+	x.way, _ = p.Messages()
 	for r := range api.MaxReplicas {
 		clock, _ := p.Clock(r)
 		log, _ := p.Log(r)

@@ -31,22 +31,21 @@ func TestNewSizes(t *testing.T) {
 	}
 }
 
-// calls are all calls of a replica that transactions take, and whether their other results are empty.
-func calls(s *weave.Store, r int) []struct {
+// call is one with its answer, and whether its other results are empty.
+type call struct {
 	name  string
 	errno api.Errno
 	empty bool
-} {
+}
+
+// calls are all calls of a replica.
+func calls(s *weave.Store, r int) []call {
 	values, e1 := s.Read(r, -1)
 	seq, e2 := s.Commit(r)
 	clock, e3 := s.Clock(r)
 	held, e4 := s.Held(r)
 	log, e5 := s.Log(r)
-	return []struct {
-		name  string
-		errno api.Errno
-		empty bool
-	}{
+	return []call{
 		{"Begin", s.Begin(r), true},
 		{"Do", s.Do(r, 0, -1, math.MaxInt, math.MinInt), true},
 		{"Read", e1, len(values) == 0},
@@ -55,12 +54,31 @@ func calls(s *weave.Store, r int) []struct {
 		{"Clock", e3, len(clock) == 0},
 		{"Held", e4, held == 0},
 		{"Log", e5, log == ""},
+		{"Ask", s.Ask(r, 0), true},
+		{"Ask of oneself", s.Ask(r, r), true},
+		{"Ask of none", s.Ask(r, -1), true},
+	}
+}
+
+// messageCalls are all calls of a message, with numbers that are wrong beside.
+func messageCalls(s *weave.Store, i int) []call {
+	return []call{
+		{"Deliver", s.Deliver(i), true},
+		{"Drop", s.Drop(i), true},
+		{"Twice", s.Twice(i), true},
+		{"Spoil", s.Spoil(i, 0, 1), true},
+		{"Spoil with no mask", s.Spoil(i, 0, 0), true},
+		{"Spoil of no byte", s.Spoil(i, -1, 255), true},
 	}
 }
 
 func TestNilStore(t *testing.T) {
+	list, e := (*weave.Store)(nil).Messages()
+	if len(list) != 0 || e != api.ErrNil {
+		t.Errorf("P1: of a store that is nil: Messages() = %v, %d", list, e)
+	}
 	for _, r := range []int{math.MinInt, -1, 0, 1, 4, math.MaxInt} {
-		for _, c := range calls(nil, r) {
+		for _, c := range append(calls(nil, r), messageCalls(nil, r)...) {
 			if c.errno != api.ErrNil || !c.empty {
 				t.Errorf("P1: of a store that is nil: %s(%d): %d, empty %t", c.name, r, c.errno, c.empty)
 			}
@@ -71,6 +89,7 @@ func TestNilStore(t *testing.T) {
 func TestNoSuchReplica(t *testing.T) {
 	for n := 2; n <= 4; n++ {
 		p := newPlay(t, n)
+		p.once(0, api.Add, 0, 5, 0)
 		p.begin(n - 1)
 		p.do(n-1, api.Add, 0, 7, 0)
 		before := p.all()
@@ -118,6 +137,11 @@ func TestStoresApart(t *testing.T) {
 		one.do(0, op, object, 0, 0)
 	}
 	one.commit(0, 1)
+	one.ask(0, 1)
+	one.ask(1, 0)
+	one.twice(0)
+	one.deliver(2, 1)
+	one.spoil(0, 0, 1)
 	if got, want := two.all(), newPlay(t, 2).all(); !reflect.DeepEqual(got, want) {
 		t.Errorf("P2: a store changed with another one: %v", got)
 	}

@@ -4,22 +4,28 @@ package weave
 import (
 	"weave/api"
 	"weave/frames"
+	"weave/post"
 	"weave/replica"
 )
 
 // Store is replicas, and what is under way between them.
-type Store struct{ replicas []*replica.Replica }
+type Store struct {
+	replicas []*replica.Replica
+	post     *post.Post
+}
 
 // replica is the one of that number, if the call may go on.
 func (s *Store) replica(r int) (*replica.Replica, api.Errno) {
 	switch {
 	case s == nil:
 		return nil, api.ErrNil
-	case r < 0 || r >= len(s.replicas):
+	case !s.has(r):
 		return nil, api.ErrReplica
 	}
 	return s.replicas[r], api.OK
 }
+
+func (s *Store) has(r int) bool { return r >= 0 && r < len(s.replicas) }
 
 // Encode writes a batch as a frame (P3).
 func Encode(b api.Batch) (string, api.Errno) {
@@ -38,7 +44,7 @@ func New(n int) (*Store, api.Errno) {
 	if n < api.MinReplicas || n > api.MaxReplicas {
 		return nil, api.ErrSize
 	}
-	s := &Store{}
+	s := &Store{post: post.New()}
 	for r := range n {
 		s.replicas = append(s.replicas, replica.New(r, n))
 	}
@@ -87,7 +93,11 @@ func (s *Store) Commit(r int) (int, api.Errno) {
 	if errno != api.OK {
 		return 0, errno
 	}
-	return at.Commit()
+	seq, frame, errno := at.Commit()
+	if seq > 0 {
+		s.spread(r, frame)
+	}
+	return seq, errno
 }
 
 // Clock tells how many batches of each replica are delivered (P10).
@@ -101,8 +111,11 @@ func (s *Store) Clock(r int) ([]int, api.Errno) {
 
 // Held tells how many batches are held back (P10).
 func (s *Store) Held(r int) (int, api.Errno) {
-	_, errno := s.replica(r)
-	return 0, errno
+	at, errno := s.replica(r)
+	if errno != api.OK {
+		return 0, errno
+	}
+	return at.Held(), api.OK
 }
 
 // Log tells a replica's log (P10).
@@ -115,22 +128,63 @@ func (s *Store) Log(r int) (string, api.Errno) {
 }
 
 // Messages tells what is under way (P11).
-func (s *Store) Messages() ([]api.Message, api.Errno) { return nil, api.OK }
+func (s *Store) Messages() ([]api.Message, api.Errno) {
+	if s == nil {
+		return nil, api.ErrNil
+	}
+	return s.post.Messages(), api.OK
+}
 
 // Deliver lets a message arrive (P11).
-func (s *Store) Deliver(i int) api.Errno { return api.OK }
+func (s *Store) Deliver(i int) api.Errno {
+	if s == nil {
+		return api.ErrNil
+	}
+	m, errno := s.post.Take(i)
+	if errno != api.OK {
+		return errno
+	}
+	s.takeIn(m)
+	return api.OK
+}
 
 // Drop loses a message (P11).
-func (s *Store) Drop(i int) api.Errno { return api.OK }
+func (s *Store) Drop(i int) api.Errno {
+	if s == nil {
+		return api.ErrNil
+	}
+	_, errno := s.post.Take(i)
+	return errno
+}
 
 // Twice doubles a message (P11).
-func (s *Store) Twice(i int) api.Errno { return api.OK }
+func (s *Store) Twice(i int) api.Errno {
+	if s == nil {
+		return api.ErrNil
+	}
+	return s.post.Twice(i)
+}
 
 // Spoil changes a byte of a message (P11).
-func (s *Store) Spoil(i int, at int, mask int) api.Errno { return api.OK }
+func (s *Store) Spoil(i int, at int, mask int) api.Errno {
+	if s == nil {
+		return api.ErrNil
+	}
+	return s.post.Spoil(i, at, mask)
+}
 
 // Ask lets a replica send a digest (P13).
-func (s *Store) Ask(r int, to int) api.Errno { return api.OK }
+func (s *Store) Ask(r int, to int) api.Errno {
+	at, errno := s.replica(r)
+	switch {
+	case errno != api.OK:
+		return errno
+	case !s.has(to) || to == r:
+		return api.ErrReplica
+	}
+	s.post.Send(post.Digest, r, to, at.Digest())
+	return api.OK
+}
 
 // Sync makes a replica's log outlast a crash (P14).
 func (s *Store) Sync(r int) api.Errno { return api.OK }
