@@ -10,7 +10,7 @@ import (
 // TakeFrame takes in what came as a frame.
 func (r *Replica) TakeFrame(bytes string) {
 	b, err := frames.Decode(bytes)
-	if err != nil || len(b.Clock) != len(r.clock) || b.Seq <= r.clock[b.Origin] {
+	if err != nil || !r.fits(b) || b.Seq <= r.clock[b.Origin] {
 		return
 	}
 	if !r.isDue(b) {
@@ -21,8 +21,14 @@ func (r *Replica) TakeFrame(bytes string) {
 	r.deliverHeld()
 }
 
+// fits tells whether b was made among as many replicas as there are here.
+func (r *Replica) fits(b api.Batch) bool { return len(b.Clock) == len(r.clock) }
+
 // isDue tells whether all that b builds on is delivered here, and it is the next of its Origin.
 func (r *Replica) isDue(b api.Batch) bool {
+	if !r.fits(b) {
+		return false
+	}
 	for i, n := range b.Clock {
 		if n > r.clock[i] {
 			return false

@@ -16,6 +16,7 @@ type state int
 const (
 	idle state = iota
 	busy       // a transaction is open
+	down
 )
 
 // Replica is one replica of several.

@@ -17,6 +17,10 @@ type model struct {
 	held      []api.Batch
 	open      bool
 	effects   []api.Effect
+	synced    int // bytes of the log
+	down      bool
+	written   []api.Batch // of one that is down: what stood in its log
+	left      string      // and what is left of that
 }
 
 // event is an effect with its dot and its batch's Time.
@@ -121,6 +125,8 @@ func (m *model) values(object int) []int {
 
 func (m *model) begin() api.Errno {
 	switch {
+	case m.down:
+		return api.ErrDown
 	case m.open:
 		return api.ErrBusy
 	case m.clock()[m.number] == 30:
@@ -130,9 +136,14 @@ func (m *model) begin() api.Errno {
 	return api.OK
 }
 
+// idle is the answer to what needs a transaction, if there is none.
+func (m *model) idle() api.Errno {
+	return cmp.Or(when(m.down, api.ErrDown), when(!m.open, api.ErrIdle))
+}
+
 func (m *model) abort() api.Errno {
-	if !m.open {
-		return api.ErrIdle
+	if errno := m.idle(); errno != api.OK {
+		return errno
 	}
 	m.open, m.effects = false, nil
 	return api.OK
@@ -140,8 +151,8 @@ func (m *model) abort() api.Errno {
 
 // commit answers the batch; if there is none, it is empty.
 func (m *model) commit() (api.Batch, api.Errno) {
-	if !m.open {
-		return api.Batch{}, api.ErrIdle
+	if errno := m.idle(); errno != api.OK {
+		return api.Batch{}, errno
 	}
 	b := m.batch()
 	m.open, m.effects = false, nil
@@ -149,6 +160,7 @@ func (m *model) commit() (api.Batch, api.Errno) {
 		return api.Batch{}, api.OK
 	}
 	m.deliver(b)
+	m.sync()
 	return b, api.OK
 }
 
@@ -196,6 +208,57 @@ func (m *model) answer(clock []int) []api.Batch {
 	return lacking[:min(3, len(lacking))]
 }
 
+func (m *model) sync() api.Errno {
+	if m.down {
+		return api.ErrDown
+	}
+	m.synced = len(bytesOf(m.delivered))
+	return api.OK
+}
+
+func (m *model) crash(keep int) api.Errno {
+	if m.down {
+		return api.ErrDown
+	}
+	m.goDown(m.delivered, keep)
+	return api.OK
+}
+
+func (m *model) fail(keep int) api.Errno {
+	if errno := m.idle(); errno != api.OK {
+		return errno
+	}
+	written := slices.Clone(m.delivered)
+	if len(m.effects) > 0 {
+		written = append(written, m.batch())
+	}
+	m.goDown(written, keep)
+	return api.OK
+}
+
+// goDown counts byte by byte what is left of the log, so that no keep can be too far off.
+func (m *model) goDown(written []api.Batch, keep int) {
+	bytes := bytesOf(written)
+	n := m.synced
+	for n < len(bytes) && n-m.synced < keep {
+		n++
+	}
+	m.written, m.left = written, bytes[:n]
+	m.down, m.open, m.effects, m.held = true, false, nil, nil
+}
+
+// restart does not read the bytes that are left: it is known what was written.
+func (m *model) restart() api.Errno {
+	if !m.down {
+		return api.ErrUp
+	}
+	for len(bytesOf(m.written)) > len(m.left) {
+		m.written = m.written[:len(m.written)-1]
+	}
+	m.delivered, m.down = slices.Clone(m.written), false
+	return m.sync()
+}
+
 // fits: which operations are for which kind.
 func fits(op, object int) bool {
 	return slices.Contains([][]int{{api.Add}, {api.Insert, api.Remove}, {api.Write}, {api.Put, api.Erase}}[object%4], op)
@@ -203,8 +266,8 @@ func fits(op, object int) bool {
 
 func (m *model) do(op, object, a, b int) api.Errno {
 	switch {
-	case !m.open:
-		return api.ErrIdle
+	case m.idle() != api.OK:
+		return m.idle()
 	case object < 0 || object > 7:
 		return api.ErrObject
 	case !fits(op, object):
@@ -265,12 +328,16 @@ func when(wrong bool, errno api.Errno) api.Errno {
 // agree: all that can be seen of a replica is as the model has it.
 func (p play) agree(m *model) {
 	p.Helper()
+	p.clock(m.number, m.clock()...)
+	p.held(m.number, len(m.held))
+	if m.down {
+		p.logBytes(m.number, m.left)
+		return
+	}
+	p.log(m.number, m.delivered...)
 	for object := range api.Objects {
 		p.read(m.number, object, m.values(object)...)
 	}
-	p.clock(m.number, m.clock()...)
-	p.held(m.number, len(m.held))
-	p.log(m.number, m.delivered...)
 }
 
 // number is one that is mostly between 0 and most, now and then at an edge or far off.

@@ -69,14 +69,24 @@ func (p play) clock(r int, want ...int) {
 // log: the log of r is the frames of these batches.
 func (p play) log(r int, want ...api.Batch) {
 	p.Helper()
+	p.logBytes(r, bytesOf(want))
+}
+
+func (p play) logBytes(r int, want string) {
+	p.Helper()
+	if l, e := p.Log(r); l != want || e != api.OK {
+		p.Errorf("P10: Log(%d) = %x, %d, want %x", r, l, e, want)
+	}
+}
+
+// bytesOf is the frames of batches, one behind the other.
+func bytesOf(batches []api.Batch) string {
 	var bytes string
-	for _, b := range want {
+	for _, b := range batches {
 		s, _ := frameOf(b)
 		bytes += s
 	}
-	if l, e := p.Log(r); l != bytes || e != api.OK {
-		p.Errorf("P10: Log(%d) = %x, %d, want %x", r, l, e, bytes)
-	}
+	return bytes
 }
 
 func (p play) held(r, want int) {
@@ -127,6 +137,26 @@ func (p play) spoil(i, at, mask int) {
 func (p play) ask(r, to int) {
 	p.Helper()
 	p.is("P13: Ask", p.Ask(r, to), api.OK)
+}
+
+func (p play) sync(r int) {
+	p.Helper()
+	p.is("P14: Sync", p.Sync(r), api.OK)
+}
+
+func (p play) crash(r, keep int) {
+	p.Helper()
+	p.is("P14: Crash", p.Crash(r, keep), api.OK)
+}
+
+func (p play) fail(r, keep int) {
+	p.Helper()
+	p.is("P14: Fail", p.Fail(r, keep), api.OK)
+}
+
+func (p play) restart(r int) {
+	p.Helper()
+	p.is("P15: Restart", p.Restart(r), api.OK)
 }
 
 // last is the batch that r has delivered last, which is its own behind a Commit.
@@ -180,6 +210,7 @@ type all struct {
 	clocks [][]int
 	logs   []string
 	held   []int
+	reads  []api.Errno // which tell what is down, too
 	values [][]int
 	way    []api.Message
 }
@@ -193,8 +224,8 @@ func (p play) all() all {
 		held, _ := p.Held(r)
 		x.clocks, x.logs, x.held = append(x.clocks, clock), append(x.logs, log), append(x.held, held)
 		for object := range api.Objects {
-			values, _ := p.Read(r, object)
-			x.values = append(x.values, append([]int{}, values...))
+			values, e := p.Read(r, object)
+			x.values, x.reads = append(x.values, append([]int{}, values...)), append(x.reads, e)
 		}
 	}
 	return x

@@ -14,9 +14,12 @@ func (s *Store) spread(from int, frame string) {
 	}
 }
 
-// takeIn lets a message happen at its receiver.
+// takeIn lets a message happen at its receiver; at one that is down nothing does.
 func (s *Store) takeIn(m api.Message) {
-	at := s.replicas[m.To]
+	at, errno := s.up(m.To)
+	if errno != api.OK {
+		return
+	}
 	switch post.Kind(m.Kind) {
 	case post.Frame:
 		at.TakeFrame(m.Bytes)

@@ -40,23 +40,38 @@ type call struct {
 
 // calls are all calls of a replica.
 func calls(s *weave.Store, r int) []call {
-	values, e1 := s.Read(r, -1)
-	seq, e2 := s.Commit(r)
-	clock, e3 := s.Clock(r)
-	held, e4 := s.Held(r)
-	log, e5 := s.Log(r)
+	clock, e1 := s.Clock(r)
+	held, e2 := s.Held(r)
+	log, e3 := s.Log(r)
+	return append(upCalls(s, r),
+		call{"Clock", e1, len(clock) == 0},
+		call{"Held", e2, held == 0},
+		call{"Log", e3, log == ""},
+		call{"Restart", s.Restart(r), true},
+	)
+}
+
+// upCalls are all calls of a replica that must be up, right ones and such with numbers that are wrong.
+func upCalls(s *weave.Store, r int) []call {
+	values, e1 := s.Read(r, 0)
+	none, e2 := s.Read(r, -1)
+	seq, e3 := s.Commit(r)
 	return []call{
 		{"Begin", s.Begin(r), true},
-		{"Do", s.Do(r, 0, -1, math.MaxInt, math.MinInt), true},
+		{"Do", s.Do(r, api.Add, 0, 1, 0), true},
+		{"Do of nothing", s.Do(r, 0, -1, math.MaxInt, math.MinInt), true},
 		{"Read", e1, len(values) == 0},
+		{"Read of nothing", e2, len(none) == 0},
 		{"Abort", s.Abort(r), true},
-		{"Commit", e2, seq == 0},
-		{"Clock", e3, len(clock) == 0},
-		{"Held", e4, held == 0},
-		{"Log", e5, log == ""},
+		{"Commit", e3, seq == 0},
 		{"Ask", s.Ask(r, 0), true},
 		{"Ask of oneself", s.Ask(r, r), true},
 		{"Ask of none", s.Ask(r, -1), true},
+		{"Sync", s.Sync(r), true},
+		{"Crash", s.Crash(r, 0), true},
+		{"Crash that keeps all", s.Crash(r, math.MaxInt), true},
+		{"Fail", s.Fail(r, 0), true},
+		{"Fail that keeps nothing", s.Fail(r, math.MinInt), true},
 	}
 }
 
@@ -142,6 +157,12 @@ func TestStoresApart(t *testing.T) {
 	one.twice(0)
 	one.deliver(2, 1)
 	one.spoil(0, 0, 1)
+	one.crash(0, 0)
+	one.begin(1)
+	one.do(1, api.Add, 0, 1, 0)
+	one.fail(1, 100)
+	one.restart(1)
+	two.is("P2: another store's crash", two.Restart(0), api.ErrUp)
 	if got, want := two.all(), newPlay(t, 2).all(); !reflect.DeepEqual(got, want) {
 		t.Errorf("P2: a store changed with another one: %v", got)
 	}

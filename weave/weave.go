@@ -14,7 +14,7 @@ type Store struct {
 	post     *post.Post
 }
 
-// replica is the one of that number, if the call may go on.
+// replica is the one of that number, if it is there.
 func (s *Store) replica(r int) (*replica.Replica, api.Errno) {
 	switch {
 	case s == nil:
@@ -23,6 +23,15 @@ func (s *Store) replica(r int) (*replica.Replica, api.Errno) {
 		return nil, api.ErrReplica
 	}
 	return s.replicas[r], api.OK
+}
+
+// up is the replica of that number, if it is there and up.
+func (s *Store) up(r int) (*replica.Replica, api.Errno) {
+	at, errno := s.replica(r)
+	if errno == api.OK && at.IsDown() {
+		return nil, api.ErrDown
+	}
+	return at, errno
 }
 
 func (s *Store) has(r int) bool { return r >= 0 && r < len(s.replicas) }
@@ -53,7 +62,7 @@ func New(n int) (*Store, api.Errno) {
 
 // Begin opens a transaction (P6).
 func (s *Store) Begin(r int) api.Errno {
-	at, errno := s.replica(r)
+	at, errno := s.up(r)
 	if errno != api.OK {
 		return errno
 	}
@@ -62,7 +71,7 @@ func (s *Store) Begin(r int) api.Errno {
 
 // Do does an operation in a transaction (P7).
 func (s *Store) Do(r int, op int, object int, a int, b int) api.Errno {
-	at, errno := s.replica(r)
+	at, errno := s.up(r)
 	if errno != api.OK {
 		return errno
 	}
@@ -71,7 +80,7 @@ func (s *Store) Do(r int, op int, object int, a int, b int) api.Errno {
 
 // Read tells what an object comes to (P8).
 func (s *Store) Read(r int, object int) ([]int, api.Errno) {
-	at, errno := s.replica(r)
+	at, errno := s.up(r)
 	if errno != api.OK {
 		return nil, errno
 	}
@@ -80,7 +89,7 @@ func (s *Store) Read(r int, object int) ([]int, api.Errno) {
 
 // Abort ends a transaction without effects (P6).
 func (s *Store) Abort(r int) api.Errno {
-	at, errno := s.replica(r)
+	at, errno := s.up(r)
 	if errno != api.OK {
 		return errno
 	}
@@ -89,7 +98,7 @@ func (s *Store) Abort(r int) api.Errno {
 
 // Commit ends a transaction with its effects (P9).
 func (s *Store) Commit(r int) (int, api.Errno) {
-	at, errno := s.replica(r)
+	at, errno := s.up(r)
 	if errno != api.OK {
 		return 0, errno
 	}
@@ -175,7 +184,7 @@ func (s *Store) Spoil(i int, at int, mask int) api.Errno {
 
 // Ask lets a replica send a digest (P13).
 func (s *Store) Ask(r int, to int) api.Errno {
-	at, errno := s.replica(r)
+	at, errno := s.up(r)
 	switch {
 	case errno != api.OK:
 		return errno
@@ -187,13 +196,39 @@ func (s *Store) Ask(r int, to int) api.Errno {
 }
 
 // Sync makes a replica's log outlast a crash (P14).
-func (s *Store) Sync(r int) api.Errno { return api.OK }
+func (s *Store) Sync(r int) api.Errno {
+	at, errno := s.up(r)
+	if errno != api.OK {
+		return errno
+	}
+	at.Sync()
+	return api.OK
+}
 
 // Crash takes a replica down (P14).
-func (s *Store) Crash(r int, keep int) api.Errno { return api.OK }
+func (s *Store) Crash(r int, keep int) api.Errno {
+	at, errno := s.up(r)
+	if errno != api.OK {
+		return errno
+	}
+	at.Crash(keep)
+	return api.OK
+}
 
 // Fail lets a replica crash in the middle of a commit (P14).
-func (s *Store) Fail(r int, keep int) api.Errno { return api.OK }
+func (s *Store) Fail(r int, keep int) api.Errno {
+	at, errno := s.up(r)
+	if errno != api.OK {
+		return errno
+	}
+	return at.Fail(keep)
+}
 
 // Restart brings a replica up (P15).
-func (s *Store) Restart(r int) api.Errno { return api.OK }
+func (s *Store) Restart(r int) api.Errno {
+	at, errno := s.replica(r)
+	if errno != api.OK {
+		return errno
+	}
+	return at.Restart()
+}

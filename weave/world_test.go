@@ -53,7 +53,12 @@ func (w *world) commit(r int) (int, api.Errno) {
 }
 
 func (w *world) ask(r, to int) api.Errno {
-	if !w.has(r) || !w.has(to) || r == to {
+	switch {
+	case !w.has(r):
+		return api.ErrReplica
+	case w.replicas[r].down:
+		return api.ErrDown
+	case !w.has(to) || r == to:
 		return api.ErrReplica
 	}
 	clock := w.replicas[r].clock()
@@ -85,7 +90,7 @@ func (w *world) deliver(i int) api.Errno {
 	w.drop(i)
 	to := w.replicas[x.To]
 	switch {
-	case x.spoilt:
+	case x.spoilt || to.down:
 	case x.Kind == api.Frame:
 		to.takeFrame(x.batch)
 	default:
@@ -165,10 +170,46 @@ func (p play) spread(dice *rand.Rand, w *world) {
 	p.way(w.messages()...)
 }
 
-// settle lets each ask each other, and delivers all that is sent, until all have the same.
+// upset does one call of a crash at the store and in the world.
+func (p play) upset(dice *rand.Rand, w *world, r int) {
+	p.Helper()
+	m := w.replicas[r]
+	keep := number(dice, 80)
+	switch dice.Intn(8) {
+	case 0:
+		p.is("P14: Sync", p.Sync(r), m.sync())
+	case 1:
+		p.is("P14: Crash", p.Crash(r, keep), m.crash(keep))
+	case 2, 3:
+		p.is("P14: Fail", p.Fail(r, keep), m.fail(keep))
+	default:
+		p.is("P15: Restart", p.Restart(r), m.restart())
+	}
+}
+
+// batches is how many there are, at any replica.
+func (w *world) batches() int {
+	n := 0
+	for r := range w.replicas {
+		most := 0
+		for _, m := range w.replicas {
+			most = max(most, m.clock()[r])
+		}
+		n += most
+	}
+	return n
+}
+
+// settle: all are up and nothing is under way; then each asks each other, and all that is sent is delivered, as often as there are batches.
 func (p play) settle(dice *rand.Rand, w *world) {
 	p.Helper()
-	for range 120 {
+	for r, m := range w.replicas {
+		p.is("P15: Restart", p.Restart(r), m.restart())
+	}
+	for len(w.way) > 0 {
+		p.is("P11: Drop", p.Drop(0), w.drop(0))
+	}
+	for range w.batches() {
 		for r := range w.replicas {
 			for to := range w.replicas {
 				if r != to {
@@ -206,10 +247,13 @@ func TestByChance(t *testing.T) {
 		n := 2 + int(seed)%3
 		p, w := newPlay(t, n), newWorld(n)
 		for i := range 900 {
-			// Now messages heap up, now they are taken in faster than they are sent.
-			if dice.Intn(10) < 1+7*(i/300%2) {
+			// Now messages heap up, now they are taken in faster than they are sent; and crashes are there never, seldom or often.
+			switch {
+			case dice.Intn(20) < int(seed)/3%3*2:
+				p.upset(dice, w, dice.Intn(n))
+			case dice.Intn(10) < 1+7*(i/300%2):
 				p.spread(dice, w)
-			} else {
+			default:
 				p.transact(dice, w, dice.Intn(n))
 			}
 			p.agree(w.replicas[dice.Intn(n)])
