@@ -14,6 +14,11 @@ func (p play) unchanged(what string, do func()) {
 	p.Helper()
 	before := p.all()
 	do()
+	p.stillAs(what, before)
+}
+
+func (p play) stillAs(what string, before all) {
+	p.Helper()
 	if after := p.all(); !reflect.DeepEqual(before, after) {
 		p.Errorf("P1: %s changed %v to %v", what, before, after)
 	}
